@@ -1,0 +1,1 @@
+"""Leaffold: printed sheets folded at any crease, cut, sewn and read as books."""
