@@ -10,13 +10,21 @@ def joints(pile):
 
 def all_joints(pile):
     lines = edge_lines(pile)
-    cells = pile.columns * pile.rows
+    found = []
+    for first, second, level in neighbours(pile.columns, pile.rows):
+        found.append((first, second, level, lines[first][1] if level else lines[first][0]))
+    return found
+
+
+# The joints of a sheet in their order, wherever its cells may lie.
+def neighbours(columns, rows):
+    cells = columns * rows
     found = []
     for cell in range(cells):
-        if cell % pile.columns < pile.columns - 1:
-            found.append((cell, cell + 1, False, lines[cell][0]))
-        if cell + pile.columns < cells:
-            found.append((cell, cell + pile.columns, True, lines[cell][1]))
+        if cell % columns < columns - 1:
+            found.append((cell, cell + 1, False))
+        if cell + columns < cells:
+            found.append((cell, cell + columns, True))
     return found
 
 

@@ -30,6 +30,8 @@ WORDS = re.compile(
 UNUSED = set("""register mro elements open input version_info with_traceback add_note format format_map chr attrgetter
     breakpoint compile delattr dir eval exec exit getattr globals hasattr help id locals methodcaller quit setattr super
     vars sys""".split())
+WALKED = set("zip enumerate reversed range items keys values".split())
+WALKERS = set("list tuple dict sorted sum any all enumerate zip".split())
 DUNDERS = {"__init__", "__eq__", "__repr__", "__str__", "__len__"}
 
 
@@ -92,6 +94,7 @@ class Files(unittest.TestCase):
                     self.assertTrue(node.module.startswith("leaffold."), name)
                     source = self.trees[node.module[len("leaffold."):] + ".py"]
                     defined = {part.name for part in source.body if isinstance(part, (ast.FunctionDef, ast.ClassDef))}
+                    defined |= {part.targets[0].id for part in source.body if isinstance(part, ast.Assign)}
                     for alias in node.names:
                         self.assertIn(alias.name, defined, name)
             top = [node for node in tree.body if isinstance(node, ast.ImportFrom)]
@@ -173,6 +176,49 @@ class Files(unittest.TestCase):
                     self.assertIn(node.id, known, f"{name}:{node.lineno}")
                 elif isinstance(node, ast.Attribute):
                     self.assertNotIn(node.attr, UNUSED | TAKEN, f"{name}:{node.lineno}")
+
+    def test_plain_values_at_the_top(self):
+        """L3, L15."""
+        for name, tree in self.trees.items():
+            for node in tree.body:
+                if isinstance(node, ast.Assign):
+                    where = f"{name}:{node.lineno}"
+                    # Raises where the value is not written out.
+                    ast.literal_eval(node.value)
+                    inner = [part for part in ast.walk(node.value) if part is not node.value]
+                    self.assertFalse([part for part in inner if isinstance(part, (ast.List, ast.Dict))], where)
+
+    def test_lists_and_dicts_of_the_top_are_only_read(self):
+        """L15: by an index or beside `in`, as far as the program needs it."""
+        for name, tree in self.trees.items():
+            kept = {node.targets[0].id for node in tree.body
+                    if isinstance(node, ast.Assign) and isinstance(node.value, (ast.List, ast.Dict))}
+            read = set()
+            for node in ast.walk(tree):
+                if isinstance(node, ast.Subscript) and isinstance(node.ctx, ast.Load):
+                    read.add(node.value)
+                elif isinstance(node, ast.Compare):
+                    read.update(node.comparators)
+            for node in ast.walk(tree):
+                if isinstance(node, ast.Name) and isinstance(node.ctx, ast.Load) and node.id in kept:
+                    self.assertIn(node, read, f"{name}:{node.lineno}")
+
+    def test_walked_at_once(self):
+        """L23, L24."""
+        for name, tree in self.trees.items():
+            walked = set()
+            for node in ast.walk(tree):
+                if isinstance(node, (ast.For, ast.comprehension)):
+                    walked.add(node.iter)
+                elif isinstance(node, ast.Call) and isinstance(node.func, ast.Name) and node.func.id in WALKERS:
+                    walked.update(node.args[:1])
+            for node in ast.walk(tree):
+                self.assertNotIsInstance(node, ast.Set, name)
+                if isinstance(node, ast.Call):
+                    called = getattr(node.func, "id", getattr(node.func, "attr", ""))
+                    self.assertNotIn(called, ("set", "frozenset"), f"{name}:{node.lineno}")
+                    if called in WALKED:
+                        self.assertIn(node, walked, f"{name}:{node.lineno}")
 
     def test_each_name_once_at_the_top(self):
         """L15."""
